@@ -1,0 +1,133 @@
+"""The rules of LANGUAGE.md that can be seen in the files of the package."""
+
+import ast
+import builtins
+import pathlib
+import re
+import unittest
+
+FOLDER = pathlib.Path(__file__).resolve().parent.parent / "rolereach"
+
+BUILTINS = set(
+    "len range enumerate zip min max sum abs sorted reversed int str bool bytes list tuple dict set frozenset "
+    "isinstance ord repr any all divmod pow getattr hasattr setattr iter next map type super property "
+    "staticmethod classmethod Exception ValueError TypeError KeyError IndexError LookupError ZeroDivisionError "
+    "ArithmeticError OverflowError RuntimeError NotImplementedError AttributeError StopIteration "
+    "NotImplemented".split())
+
+BARRED = re.compile(
+    r"\b(typing|typing_extensions|enum|Enum|IntEnum|StrEnum|Flag|IntFlag|Generic|Protocol|ABC|ABCMeta|namedtuple|"
+    r"NamedTuple|TypedDict|TYPE_CHECKING|abstractmethod)\b|dataclass|overload|contextmanager|_wall|_WallAttr")
+
+NEVER = {"register", "mro", "elements", "open", "input", "law", "version_info", "with_traceback", "add_note"}
+
+NODES_OUT = (ast.Global, ast.AsyncFunctionDef, ast.AsyncFor, ast.AsyncWith, ast.Await, ast.Div, ast.MatMult)
+
+
+def sources():
+    return [(path, path.read_text(encoding="utf-8")) for path in sorted(FOLDER.rglob("*.py"))]
+
+
+def trees():
+    return [(path.name, ast.parse(text)) for path, text in sources()]
+
+
+def bound_names(tree):
+    """The names that a file gives to functions, classes, parameters and variables."""
+    for node in ast.walk(tree):
+        if isinstance(node, (ast.FunctionDef, ast.ClassDef)):
+            yield node.name
+        elif isinstance(node, ast.arg):
+            yield node.arg
+        elif isinstance(node, ast.Name) and isinstance(node.ctx, ast.Store):
+            yield node.id
+        elif isinstance(node, ast.ExceptHandler) and node.name:
+            yield node.name
+
+
+class FilesTest(unittest.TestCase):
+    def test_the_folder_contains_only_sources(self):
+        for path in FOLDER.rglob("*"):
+            if path.is_file() and "__pycache__" not in path.parts:
+                self.assertRegex(path.name, r"^([a-z][a-z0-9_]*|__init__|__main__)\.py$")
+
+    def test_sizes_and_characters(self):
+        for path, text in sources():
+            lines = text.split("\n")
+            self.assertLessEqual(len(lines), 400, path.name)
+            self.assertLessEqual(max(len(line) for line in lines), 120, path.name)
+            self.assertEqual([char for char in text if char != "\n" and not " " <= char <= "~"], [], path.name)
+            self.assertEqual([line for line in lines if line != line.rstrip()], [], path.name)
+            self.assertEqual(BARRED.findall(text), [], path.name)
+
+    def test_functions_have_at_most_forty_lines(self):
+        for name, tree in trees():
+            for node in ast.walk(tree):
+                if isinstance(node, ast.FunctionDef):
+                    self.assertLessEqual(node.end_lineno - node.lineno + 1, 40, f"{name}: {node.name}")
+
+
+class CodeTest(unittest.TestCase):
+    def test_imports(self):
+        for name, tree in trees():
+            for node in ast.walk(tree):
+                self.assertNotIsInstance(node, ast.Import, name)
+                if isinstance(node, ast.ImportFrom):
+                    self.assertIn(node, tree.body, name)
+                    self.assertEqual(node.level, 0, name)
+                    self.assertTrue(node.module.startswith("rolereach."), name)
+                    self.assertNotIn("*", [alias.name for alias in node.names], name)
+
+    def test_module_level(self):
+        allowed = (ast.ImportFrom, ast.FunctionDef, ast.ClassDef, ast.Assign)
+        for name, tree in trees():
+            for at, node in enumerate(tree.body):
+                if not (at == 0 and isinstance(node, ast.Expr) and isinstance(node.value, ast.Constant)):
+                    self.assertIsInstance(node, allowed, f"{name}: {node.lineno}")
+
+    def test_statements(self):
+        for name, tree in trees():
+            for node in ast.walk(tree):
+                self.assertNotIsInstance(node, NODES_OUT, name)
+                for decorator in getattr(node, "decorator_list", []):
+                    self.assertEqual(ast.unparse(decorator), "property", name)
+
+    def test_builtins(self):
+        known = set(dir(builtins))
+        for name, tree in trees():
+            for node in ast.walk(tree):
+                if isinstance(node, ast.Name) and node.id in known:
+                    self.assertIn(node.id, BUILTINS, f"{name}: {node.lineno}")
+
+    def test_names(self):
+        known = set(dir(builtins))
+        for name, tree in trees():
+            methods = {id(part) for node in ast.walk(tree) if isinstance(node, ast.ClassDef) for part in node.body}
+            for bound in bound_names(tree):
+                self.assertNotIn(bound, NEVER, name)
+                if bound != "__init__" and not re.match(r"__[a-z]+__$", bound):
+                    self.assertRegex(bound, r"^_?[A-Za-z][A-Za-z0-9_]*$|^_$", name)
+            for node in ast.walk(tree):
+                if isinstance(node, ast.FunctionDef) and id(node) not in methods:
+                    self.assertNotIn(node.name, known, name)
+                if isinstance(node, ast.arg):
+                    self.assertNotIn(node.arg, known, name)
+
+    def test_strings(self):
+        for name, tree in trees():
+            for node in ast.walk(tree):
+                if isinstance(node, ast.Constant) and isinstance(node.value, str):
+                    self.assertNotIn("%", node.value, name)
+                self.assertFalse(isinstance(node, ast.Constant) and isinstance(node.value, (float, complex)), name)
+
+    def test_identity_is_asked_of_constants(self):
+        for name, tree in trees():
+            for node in ast.walk(tree):
+                if isinstance(node, ast.Compare):
+                    for sign, part in zip(node.ops, node.comparators):
+                        if isinstance(sign, (ast.Is, ast.IsNot)):
+                            self.assertIn(ast.unparse(part), ["None", "True", "False"], f"{name}: {node.lineno}")
+
+
+if __name__ == "__main__":
+    unittest.main()
