@@ -14,6 +14,12 @@ def check_taker(value):
         raise InvalidTaker(value)
 
 
+def check_taker_from(giver, value):
+    # Nobody grants to himself.
+    if not is_taker(value) or value == giver:
+        raise InvalidTaker(value)
+
+
 def check_right(value):
     if not is_right(value):
         raise InvalidRight(value)

@@ -7,6 +7,9 @@ LONGEST_NAME = 8
 # "public" and "caller" stand where names stand, so no thing may be called so.
 RESERVED = ("public", "caller")
 
+# The order of the rights.
+RIGHTS = ("inherit", "act", "read", "write", "call")
+
 RIGHTS_BY_KIND = {
     "role": ("inherit", "act"),
     "table": ("read", "write"),
@@ -56,6 +59,11 @@ def is_flag(value):
 
 def is_list(value):
     return isinstance(value, (list, tuple))
+
+
+def is_number(value):
+    # True and False are integers for Python, but not here.
+    return isinstance(value, int) and not is_flag(value)
 
 
 def is_names(value, most):

@@ -2,7 +2,12 @@
 
 import unittest
 
+from rolereach.access import acting, barrier, has, holds, inherited, reason
+from rolereach.errors import Unrooted
+from rolereach.grants import Grant
 from rolereach.names import is_flag, is_name, is_names, is_taker, kind_of, rights_of, split_words
+from rolereach.standing import is_cut_off, support, without
+from rolereach.systems import System
 from rolereach.things import Call, Function, Give, Make, Role, Table
 
 
@@ -36,6 +41,70 @@ class StageTwoTest(unittest.TestCase):
         self.assertEqual(
             str(Make(Function("f", "ann", audience=[], body=[Call("g"), Call("h")]))),
             'make function f ann owner audience : call g ; call h')
+
+
+class StageThreeTest(unittest.TestCase):
+    def test_grants(self):
+        first, second = Grant("ann", "bob", "read", "pay"), Grant("ann", "bob", "read", "pay", option=True)
+        self.assertEqual(
+            [first < second, second.covers(first), first.covers(second), first.with_option(True) == second,
+             second.key()],
+            [True, True, False, True, ('ann', 'bob', 'read', 'pay')])
+
+
+def pay_things():
+    return [Role("dba", "dba"), Role("ann", "dba"), Role("bob", "dba"), Table("pay", "dba")]
+
+
+def pay_system():
+    return System(pay_things(), [Grant("dba", "ann", "read", "pay", option=True), Grant("ann", "bob", "read", "pay")])
+
+
+class StageFourTest(unittest.TestCase):
+    def test_a_system(self):
+        system = pay_system()
+        self.assertEqual(
+            [len(system), system.names("role"), Grant("dba", "ann", "read", "pay") in system,
+             system.option_of("ann", "bob", "read", "pay")],
+            [2, ['dba', 'ann', 'bob'], True, False])
+
+    def test_a_grant_without_a_root(self):
+        with self.assertRaises(Unrooted):
+            System(pay_things(), [Grant("ann", "bob", "read", "pay")])
+
+
+class StageFiveTest(unittest.TestCase):
+    def test_what_falls(self):
+        system = pay_system()
+        gone, fallen = without(system, [Grant("dba", "ann", "read", "pay")])
+        self.assertEqual(
+            [len(gone), [grant.key() for grant in fallen],
+             len(without(system, [Grant("dba", "ann", "read", "pay")], only_option=True)[0])],
+            [0, [('ann', 'bob', 'read', 'pay')], 1])
+        self.assertEqual(
+            [len(support(system, Grant("ann", "bob", "read", "pay"))),
+             is_cut_off(system, fallen, fallen[0], ["ann"])],
+            [2, True])
+
+
+class StageSixTest(unittest.TestCase):
+    def setUp(self):
+        things = [Role("dba", "dba"), Role("ops", "dba"), Role("ann", "dba"), Table("pay", "ops")]
+        self.system = System(things, [Grant("dba", "ann", "inherit", "ops")])
+
+    def test_who_has_which_right(self):
+        system = self.system
+        self.assertEqual(
+            [inherited(system, "dba"), has(system, "ann", "read", "pay"), holds(system, "ann", "read", "pay"),
+             has(system, "dba", "write", "pay")],
+            [['dba', 'ops', 'ann'], True, False, True])
+
+    def test_reason_barrier_and_acting(self):
+        system = self.system
+        self.assertEqual(
+            [[link[:3] for link in reason(system, "ann", "read", "pay")], barrier(system, "ops", "act", "ann"),
+             acting(system, ["ann"])],
+            [[('ann', 'inherit', 'ops'), ('ops', 'read', 'pay')], ['ops'], ['ann']])
 
 
 if __name__ == "__main__":

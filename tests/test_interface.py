@@ -3,12 +3,39 @@
 import inspect
 import unittest
 
-from rolereach import names, things
+from rolereach import access, grants, names, standing, systems, things
 
-FUNCTIONS = {
+FUNCTIONS = {names: {
     "is_name": "(value)", "is_taker": "(value)", "is_right": "(value)", "is_flag": "(value)",
     "is_list": "(value)", "is_names": "(value, most)", "rights_of": "(kind)", "kind_of": "(right)",
     "split_words": "(text, *, separator=' ')",
+}, standing: {
+    "standing": "(system, grants)", "ranks": "(system, grants)", "is_ranking": "(system, grants, rows)",
+    "is_cut_off": "(system, grants, grant, roles)", "cut_off": "(system, grants, grant)",
+    "without": "(system, grants, *, only_option=False)", "support": "(system, grant)",
+}, access: {
+    "inherited": "(system, role)", "holds": "(system, role, right, thing, *, option=False)",
+    "has": "(system, role, right, thing)", "reason": "(system, role, right, thing)",
+    "is_reason": "(system, role, right, thing, value)", "barrier": "(system, role, right, thing)",
+    "is_barrier": "(system, role, right, thing, roles)", "acting": "(system, roles)",
+    "act_path": "(system, roles, role)",
+}}
+
+ORDER = ["__eq__", "__lt__", "__le__", "__gt__", "__ge__"]
+SIGNS = ["__eq__", "__le__", "__ge__", "__len__", "__contains__"]
+
+# The classes of the later files, with the parameters of their listed methods.
+LATER = {
+    (grants, "Grant"): ("(giver, taker, right, thing, *, option=False)", ORDER,
+                        {"covers": "(self, other)", "with_option": "(self, option)", "key": "(self)"}),
+    (grants, "Default"): ("(maker, kind, right, taker, *, option=False)", ORDER, {"grant_on": "(self, thing)"}),
+    (systems, "System"): ("(things, grants=(), defaults=())", SIGNS, {
+        "things": "(self)", "names": "(self, kind=None)", "grants": "(self)", "defaults": "(self)",
+        "thing_of": "(self, name)", "owner_of": "(self, name)", "steps": "(self, name)",
+        "option_of": "(self, giver, taker, right, thing)", "with_thing": "(self, thing)",
+        "with_grant": "(self, grant)", "with_default": "(self, default)", "joined": "(self, other)"}),
+    (access, "Access"): ("(system)", ["__len__", "__contains__"],
+                         {"__call__": "(self, role, right, thing)", "rows": "(self)"}),
 }
 
 CLASSES = {
@@ -27,10 +54,11 @@ CLASSES = {
 
 class InterfaceTest(unittest.TestCase):
     def test_functions(self):
-        for name, signature in FUNCTIONS.items():
-            function = getattr(names, name)
-            self.assertEqual(function.__module__, "rolereach.names")
-            self.assertEqual(str(inspect.signature(function)), signature)
+        for module, functions in FUNCTIONS.items():
+            for name, signature in functions.items():
+                function = getattr(module, name)
+                self.assertEqual(function.__module__, module.__name__)
+                self.assertEqual(str(inspect.signature(function)), signature)
 
     def test_classes(self):
         for name, (base, signature, methods) in CLASSES.items():
@@ -40,6 +68,16 @@ class InterfaceTest(unittest.TestCase):
             self.assertEqual(str(inspect.signature(found)), signature)
             for method in methods:
                 self.assertIn(method, vars(found), name)
+
+    def test_classes_of_the_later_files(self):
+        for (module, name), (signature, signs, methods) in LATER.items():
+            found = getattr(module, name)
+            self.assertEqual([found.__module__, found.__bases__], [module.__name__, (object,)])
+            self.assertEqual(str(inspect.signature(found)), signature)
+            for sign in signs:
+                self.assertIn(sign, vars(found), name)
+            for method, parameters in methods.items():
+                self.assertEqual(str(inspect.signature(vars(found)[method])), parameters, name)
 
     def test_the_base_class_of_the_things(self):
         for method in ["__eq__", "rights", "admits"]:

@@ -21,6 +21,8 @@ BARRED = re.compile(
 
 NEVER = {"register", "mro", "elements", "open", "input", "law", "version_info", "with_traceback", "add_note"}
 
+CHANGING = ("append", "clear", "extend", "insert", "pop", "remove", "reverse", "setdefault", "update", "add", "discard")
+
 NODES_OUT = (ast.Global, ast.AsyncFunctionDef, ast.AsyncFor, ast.AsyncWith, ast.Await, ast.Div, ast.MatMult)
 
 
@@ -43,6 +45,15 @@ def bound_names(tree):
             yield node.id
         elif isinstance(node, ast.ExceptHandler) and node.name:
             yield node.name
+
+
+def changed_in(tree):
+    """Whatever a piece of code assigns items or attributes of, or calls a changing method of."""
+    for node in ast.walk(tree):
+        if isinstance(node, (ast.Subscript, ast.Attribute)) and isinstance(node.ctx, (ast.Store, ast.Del)):
+            yield ast.unparse(node.value)
+        elif isinstance(node, ast.Attribute) and node.attr in CHANGING:
+            yield ast.unparse(node.value)
 
 
 class FilesTest(unittest.TestCase):
@@ -112,6 +123,36 @@ class CodeTest(unittest.TestCase):
                     self.assertNotIn(node.name, known, name)
                 if isinstance(node, ast.arg):
                     self.assertNotIn(node.arg, known, name)
+
+    def test_what_is_sorted_is_plainly_strings(self):
+        # Grants and defaults raise errors of their own when they are compared with other values.
+        for name, tree in trees():
+            for node in ast.walk(tree):
+                if isinstance(node, ast.Call) and ast.unparse(node.func) in ("sorted", "min", "max"):
+                    self.assertRegex(ast.unparse(node), r"^sorted\(\[str\((\w+)\) for \1 in [\w.]+\]\)$", name)
+                if isinstance(node, ast.Attribute):
+                    self.assertNotEqual(node.attr, "sort", name)
+
+    def test_no_generators(self):
+        for name, tree in trees():
+            for node in ast.walk(tree):
+                self.assertNotIsInstance(node, (ast.GeneratorExp, ast.Yield, ast.YieldFrom), name)
+
+    def test_loops_do_not_change_what_they_iterate_over(self):
+        for name, tree in trees():
+            for node in ast.walk(tree):
+                if isinstance(node, ast.For):
+                    parts = [part for part in ast.walk(node.iter) if isinstance(part, (ast.Name, ast.Attribute))]
+                    over = {ast.unparse(part) for part in parts}
+                    self.assertEqual(over & set(changed_in(node)), set(), f"{name}: {node.lineno}")
+
+    def test_operators_return_and_change_nothing(self):
+        signs = ("__eq__", "__lt__", "__le__", "__gt__", "__ge__", "__contains__", "__len__")
+        for name, tree in trees():
+            for node in ast.walk(tree):
+                if isinstance(node, ast.FunctionDef) and node.name in signs:
+                    self.assertIsInstance(node.body[-1], ast.Return, name)
+                    self.assertEqual(list(changed_in(node)), [], f"{name}: {node.lineno}")
 
     def test_strings(self):
         for name, tree in trees():

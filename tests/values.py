@@ -1,6 +1,9 @@
 """Values of every kind, for tests that pass any value, and a check of the error that is due."""
 
+from rolereach.access import Access
 from rolereach.errors import InvalidName
+from rolereach.grants import Default, Grant
+from rolereach.systems import System
 from rolereach.things import Call, Function, Give, Make, Preset, Role, Table, Take, Use
 
 NAMES = ["a", "z", "ann", "abcdefgh", "option", "owner", "role", "inherit", "call", "by"]
@@ -27,14 +30,17 @@ def other_values():
         Role("ann", "ann"), Table("pay", "ann", audience=["ann"]), Function("f", "ann"),
         Function("f", "ann", body=[Call("g")]), Give("read", "pay", "public"), Take("act", "ann", "bob"),
         Call("f"), Preset("table", "read", "ann"), Use("read", "pay"), Make(Table("pay", "ann")),
-        InvalidName("a"),
+        Grant("ann", "bob", "read", "pay"), Grant("ann", "bob", "act", "ann", option=True),
+        Default("ann", "table", "read", "bob"), System([]), System([Role("ann", "ann")]),
+        Access(System([Role("ann", "ann")])), InvalidName("a"),
     ]
 
 
 def lists():
     return [
         [], (), ["ann"], ("ann", "bob"), ["ann", "ann"], ["public"], ("caller",), [1], [True], [None],
-        [["ann"]], deeply_nested(), ["ann", {}], list(range(2600)), [Call("f")], [Role("ann", "ann")],
+        [["ann"]], deeply_nested(), [Grant("ann", "bob", "read", "pay")], [[], ()], [{}, None], [("ann", [])],
+        ["ann", {}], list(range(2600)), [Call("f")], [Role("ann", "ann")],
         ["a", "b", "c", "d", "e", "f", "g", "h", "i"],
     ]
 
@@ -54,3 +60,14 @@ def expect(case, error, field, value, action):
         action()
     case.assertIs(type(caught.exception), error)
     case.assertIs(getattr(caught.exception, field), value)
+
+
+def expect_first(case, action, good, bad):
+    """With wrong arguments from any one on, the error of the first wrong one is due.
+
+    `bad` has a tuple (value, error, field) for each of the good arguments.
+    """
+    for first in range(len(bad)):
+        given = good[:first] + [value for value, _, _ in bad[first:]]
+        _, error, field = bad[first]
+        expect(case, error, field, given[first], lambda: action(*given))
