@@ -23,14 +23,14 @@ def check_question(system, role, right, thing):
         raise Mismatch(right)
 
 
-def in_order(system, roles):
-    return [role for role in system.names("role") if role in roles]
+def roles_in(system, mask):
+    return system.catalog.roster.roles_in(mask)
 
 
 def inherited(system, role):
     check_system(system)
     check_role(system, role)
-    return in_order(system, system.holding.inherited(role))
+    return roles_in(system, system.holding.inherited(role))
 
 
 def holds(system, role, right, thing, *, option=False):
@@ -48,7 +48,7 @@ def has(system, role, right, thing):
 
 def reason(system, role, right, thing):
     check_question(system, role, right, thing)
-    before = system.holding.inherited(role)
+    before = system.holding.ways_of_inheriting(role)
     # The nearest roles come first, so the way to the first holder is a shortest one.
     holders = [other for other in before if system.holding.holds(other, right, thing)]
     if len(holders) == 0:
@@ -93,17 +93,18 @@ def barrier(system, role, right, thing):
     check_question(system, role, right, thing)
     if system.holding.has(role, right, thing):
         return None
-    return in_order(system, system.holding.inherited(role))
+    return roles_in(system, system.holding.inherited(role))
 
 
 def is_barrier(system, role, right, thing, roles):
     check_question(system, role, right, thing)
     if not system.catalog.are_roles(roles) or role not in roles:
         return False
-    if any([system.holding.holds(member, right, thing) for member in roles]):
+    mask = system.catalog.roster.mask_of(roles)
+    if system.holding.holders((right, thing)) & mask != 0:
         return False
     heirs = system.holding.heirs()
-    return all([other in roles for member in roles for other in heirs[member]])
+    return all([heirs[system.catalog.roster.places[member]] & ~mask == 0 for member in roles])
 
 
 class Access:
@@ -132,14 +133,10 @@ class Access:
 
 
 def rows_of(system):
-    rows = []
-    for role in system.names("role"):
-        heirs = system.holding.inherited(role)
-        for thing in system.things():
-            for right in thing.rights():
-                if any([system.holding.holds(other, right, thing.name) for other in heirs]):
-                    rows.append((role, right, thing.name))
-    return rows
+    roster = system.catalog.roster
+    spots = [(right, thing, system.holding.having((right, thing))) for right, thing in roster.spots]
+    return [(role, right, thing) for role in roster.roles for right, thing, those in spots
+            if those & roster.bits[role] != 0]
 
 
 def check_team(system, roles):
@@ -150,14 +147,14 @@ def check_team(system, roles):
 def acting(system, roles):
     check_system(system)
     check_team(system, roles)
-    return in_order(system, system.holding.acted_as(roles))
+    return roles_in(system, system.holding.acted_as(system.catalog.roster.mask_of(roles)))
 
 
 def act_path(system, roles, role):
     check_system(system)
     check_team(system, roles)
     check_role(system, role)
-    before = system.holding.acted_as(roles)
+    before = system.holding.ways_of_acting(roles)
     if role not in before:
         return None
     return way_to(before, role)

@@ -2,6 +2,7 @@
 
 from rolereach.errors import InvalidStep, TooLong, TooMany, UnknownRole, UnknownThing
 from rolereach.names import is_list, is_right, kind_of
+from rolereach.rosters import Roster
 from rolereach.things import Call
 
 MOST_OF_KINDS = (("role", 8), ("table", 6), ("function", 6))
@@ -20,6 +21,7 @@ class Catalog:
             self._check_roles_of(thing)
             if thing.kind == "function":
                 self._add_steps_of(thing)
+        self.roster = Roster(self._things)
 
     def _check_roles_of(self, thing):
         for name in [thing.owner] + (thing.audience or []):

@@ -1,60 +1,123 @@
 """Who holds and who has which right, by ownership and by levels.
 
-A level is 1 for a right and 2 for a right with the option. Levels stand in a dict under
-tuples (taker, right, thing).
+A level is 1 for a right and 2 for a right with the option. For each right on a thing,
+the takers with a level stand as the bits of a number.
 """
 
-from rolereach.walks import walk
+from rolereach.rosters import PUBLIC, closed, turned
 
 
 class Holding:
-    """Answers for the things of a catalog and for levels that are not changed any more."""
+    """Answers for the things of a roster and for levels, which can be raised."""
 
-    def __init__(self, catalog, levels):
-        self._catalog = catalog
-        self._levels = levels
+    def __init__(self, roster, held, optioned):
+        self.roster = roster
+        self.held = held
+        self.optioned = optioned
+        # What follows from the levels is kept until one of them is raised that it may depend on.
+        self._heirs = None
+        self._closures = None
+        self._parts = None
 
-    def level(self, taker, right, thing):
-        return self._levels.get((taker, right, thing), 0)
+    def copied(self):
+        return self.placed(self.roster)
 
-    def owns(self, role, thing):
-        return self._catalog.owner_of(thing) == role
+    def placed(self, roster):
+        """The same levels for a roster that has the same roles first, and the same things, perhaps more."""
+        held = {spot: self.held.get(spot, 0) for spot in roster.spots}
+        optioned = {spot: self.optioned.get(spot, 0) for spot in roster.spots}
+        return Holding(roster, held, optioned)
+
+    def joined(self, other):
+        """The greater level of both, for the same things."""
+        held = {spot: self.held[spot] | other.held[spot] for spot in self.held}
+        optioned = {spot: self.optioned[spot] | other.optioned[spot] for spot in self.held}
+        return Holding(self.roster, held, optioned)
+
+    def receive(self, spot, takers, option):
+        """Raises the levels of these takers, of the roles among them with the option if there is one."""
+        self.held[spot] = self.held[spot] | takers
+        if option:
+            self.optioned[spot] = self.optioned[spot] | takers & self.roster.everyone
+        if spot[0] == "inherit":
+            self._heirs = None
+            self._closures = None
+        if spot[0] == "inherit" or spot[0] == "act":
+            self._parts = None
+
+    def holders(self, spot):
+        takers = self.held[spot]
+        if takers & PUBLIC != 0:
+            return self.roster.everyone
+        return takers | self.roster.owners[spot[1]]
+
+    def keepers(self, spot):
+        """The roles that hold the right with the option."""
+        return self.optioned[spot] | self.roster.owners[spot[1]]
 
     def holds(self, role, right, thing):
-        return (self.owns(role, thing) or self.level(role, right, thing) > 0
-                or self.level("public", right, thing) > 0)
+        return self.holders((right, thing)) & self.roster.bits[role] != 0
 
     def holds_with_option(self, role, right, thing):
-        return self.owns(role, thing) or self.level(role, right, thing) == 2
+        return self.keepers((right, thing)) & self.roster.bits[role] != 0
 
     def heirs(self):
-        """For each role the roles on which it holds inherit."""
-        roles = self._catalog.names("role")
-        return {role: [other for other in roles if self.holds(role, "inherit", other)] for role in roles}
+        """For each role, by its place, the roles on which it holds inherit."""
+        if self._heirs is None:
+            self._heirs = turned([self.holders(("inherit", role)) for role in self.roster.roles])
+        return self._heirs
+
+    def closures(self):
+        """For each role, by its place, the roles that it inherits."""
+        if self._closures is None:
+            self._closures = closed(self.heirs())
+        return self._closures
 
     def inherited(self, role):
-        """The roles that a role inherits, the nearest ones first, each with the role before it."""
-        return walk([role], self.heirs())
+        return self.closures()[self.roster.places[role]]
+
+    def having(self, spot):
+        """The roles that have the right."""
+        holders = self.holders(spot)
+        if holders == self.roster.everyone:
+            return holders
+        return sum([1 << place for place, mask in enumerate(self.closures()) if mask & holders != 0])
 
     def has(self, role, right, thing):
-        return any([self.holds(other, right, thing) for other in self.inherited(role)])
+        return self.inherited(role) & self.holders((right, thing)) != 0
 
     def parts(self):
-        """For each role the roles on which it has act."""
-        roles = self._catalog.names("role")
-        return {role: [other for other in roles if self.has(role, "act", other)] for role in roles}
+        """For each role, by its place, the roles on which it has act."""
+        if self._parts is None:
+            self._parts = turned([self.having(("act", role)) for role in self.roster.roles])
+        return self._parts
 
-    def acted_as(self, roles):
-        """The roles that can be acted as by these, the nearest ones first, each with the role before it."""
-        return walk(roles, self.parts())
+    def acted_as(self, mask):
+        """The roles that can be acted as by these."""
+        parts = self.parts()
+        found = 0
+        while found != mask:
+            found = mask
+            for place, further in enumerate(parts):
+                if mask >> place & 1 == 1:
+                    mask = mask | further
+        return mask
+
+    def ways_of_inheriting(self, role):
+        return self.roster.ways([role], self.heirs())
+
+    def ways_of_acting(self, roles):
+        return self.roster.ways(roles, self.parts())
 
 
-def raised(levels, grants):
-    """The levels, raised where these grants give more."""
-    found = {spot: levels[spot] for spot in levels}
+def holding_of(roster, grants):
+    """What is held by these grants and by the owners."""
+    held = {spot: 0 for spot in roster.spots}
+    optioned = {spot: 0 for spot in roster.spots}
     for grant in grants:
-        spot = (grant.taker, grant.right, grant.thing)
-        level = 2 if grant.option else 1
-        if level > found.get(spot, 0):
-            found[spot] = level
-    return found
+        spot = (grant.right, grant.thing)
+        bit = roster.bit_of(grant.taker)
+        held[spot] = held[spot] | bit
+        if grant.option:
+            optioned[spot] = optioned[spot] | bit
+    return Holding(roster, held, optioned)

@@ -5,7 +5,7 @@ from rolereach.errors import DuplicateDefault, DuplicateGrant, DuplicateName, In
 from rolereach.errors import InvalidGrant, InvalidGrants, InvalidKind, InvalidSystem, InvalidThing, InvalidThings
 from rolereach.errors import Mismatch, NameTaken, Unrooted
 from rolereach.grants import Default, Grant, ascending
-from rolereach.holdings import Holding, raised
+from rolereach.holdings import holding_of
 from rolereach.names import is_kind, is_list
 from rolereach.rooting import ranks_by_key
 from rolereach.things import Function, Role, Table
@@ -24,8 +24,7 @@ class System:
         self._grants = grants_by_key(self.catalog, grants)
         check_rooted(self.catalog, grants)
         self._defaults = defaults_by_key(self.catalog, defaults)
-        self._levels = raised({}, grants)
-        self.holding = Holding(self.catalog, self._levels)
+        self.holding = holding_of(self.catalog.roster, grants)
 
     def things(self):
         return self.catalog.things()
@@ -96,7 +95,8 @@ class System:
         if self.catalog.knows(thing.name):
             raise NameTaken(thing.name)
         # All that the catalog checks again for the older things holds as before.
-        return assembled(Catalog(self.things() + [thing]), self._grants, self._levels, self._defaults)
+        catalog = Catalog(self.things() + [thing])
+        return assembled(catalog, self._grants, self.holding.placed(catalog.roster), self._defaults)
 
     def with_grant(self, grant):
         check_grant(self.catalog, grant)
@@ -104,36 +104,37 @@ class System:
         if not self.holding.holds_with_option(grant.giver, grant.right, grant.thing):
             raise Unrooted(grant)
         grants = merged(self._grants, {grant.key(): grant})
-        return assembled(self.catalog, grants, raised(self._levels, [grant]), self._defaults)
+        holding = self.holding.copied()
+        holding.receive((grant.right, grant.thing), self.catalog.roster.bit_of(grant.taker), grant.option)
+        return assembled(self.catalog, grants, holding, self._defaults)
 
     def with_default(self, default):
         check_default(self.catalog, default)
         defaults = merged(self._defaults, {default.key(): default})
-        return assembled(self.catalog, self._grants, self._levels, defaults)
+        return assembled(self.catalog, self._grants, self.holding, defaults)
 
     def joined(self, other):
         check_system(other)
         if not self.same_things(other):
             raise Mismatch(other)
         grants = merged(self._grants, other._grants)
-        levels = raised(self._levels, other.grants())
-        return assembled(self.catalog, grants, levels, merged(self._defaults, other._defaults))
+        defaults = merged(self._defaults, other._defaults)
+        return assembled(self.catalog, grants, self.holding.joined(other.holding), defaults)
 
     def with_only(self, grants):
         """The system with these grants in the place of its own ones; all of them stand."""
         by_key = {grant.key(): grant for grant in grants}
-        return assembled(self.catalog, by_key, raised({}, grants), self._defaults)
+        return assembled(self.catalog, by_key, holding_of(self.catalog.roster, grants), self._defaults)
 
 
-def assembled(catalog, grants, levels, defaults):
+def assembled(catalog, grants, holding, defaults):
     """A system of parts that are known to fit together."""
     # The constructor would check each grant again, which takes long for systems with many grants.
     system = System(())
     system.catalog = catalog
     system._grants = grants
     system._defaults = defaults
-    system._levels = levels
-    system.holding = Holding(catalog, levels)
+    system.holding = holding
     return system
 
 

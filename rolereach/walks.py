@@ -1,4 +1,4 @@
-"""Shortest ways from role to role."""
+"""Shortest ways from owners to takers."""
 
 
 def walk(starts, following):

@@ -1,13 +1,16 @@
 """Who can act as whom [65]."""
 
+import itertools
+import time
 import unittest
 
 from rolereach.access import act_path, acting
 from rolereach.errors import InvalidSystem, InvalidTeam, UnknownRole
+from rolereach.grants import Grant
 from rolereach.systems import System
-from rolereach.things import Role
+from rolereach.things import Role, Table
 from tests.values import any_values, expect, expect_first
-from tests.worlds import full_system, given, office, plain_has, random_system
+from tests.worlds import Dice, full_system, given, office, plain_has, random_system
 
 NO_TEAMS = [["ann", "ann"], ["zed"], ["ann", "zed"], ["pay"], ["public"], ("ann", "bob", "ann"), [["ann"]], [None],
             ["ann", 1], {"ann": "bob"}, "ann", list("abcdefghi")]
@@ -106,6 +109,79 @@ class ActPathTest(unittest.TestCase):
         system = full_system()
         self.assertEqual(acting(system, ["h"]), list("abcdefgh"))
         self.assertEqual([act_path(system, ["h"], role) for role in "abh"], [["h", "a"], ["h", "b"], ["h"]])
+
+
+EIGHT = list("abcdefgh")
+
+
+def owner_after(role):
+    """In the ring of eight roles each one is owned by the next one."""
+    return EIGHT[(EIGHT.index(role) + 1) % 8]
+
+
+def ring(grants):
+    return System([Role(role, owner_after(role)) for role in EIGHT] + [Table("x", "a")], grants)
+
+
+def ring_of_acts():
+    return ring([Grant(owner_after(role), owner_after(owner_after(role)), "act", role) for role in EIGHT])
+
+
+def ring_with_many_grants(seed):
+    dice, found = Dice(seed), {}
+    while len(found) < 40:
+        role = dice.pick(EIGHT)
+        # Few of the grants are to public, which would make the rest needless.
+        taker = "public" if dice.below(30) == 0 else dice.pick(EIGHT)
+        if taker != owner_after(role):
+            grant = Grant(owner_after(role), taker, dice.pick(["act", "inherit"]), role)
+            found[grant.key()] = grant
+    return ring(list(found.values()))
+
+
+class EightRolesTest(unittest.TestCase):
+    def compare_all_teams(self, system):
+        pairs = act_pairs(system)
+        for count in range(4):
+            for team in itertools.combinations(EIGHT, count):
+                distances = plain_distances(pairs, team)
+                self.assertEqual(acting(system, list(team)), [role for role in EIGHT if role in distances])
+                for role in EIGHT:
+                    path = act_path(system, list(team), role)
+                    self.assertEqual(None if path is None else len(path), distances.get(role))
+                    if path is not None:
+                        self.assertEqual([path[-1], path[0] in team], [role, True])
+                        self.assertTrue(all(pair in pairs for pair in zip(path, path[1:])))
+
+    def test_a_ring(self):
+        self.compare_all_teams(ring_of_acts())
+
+    def test_rings_with_many_grants(self):
+        for seed in range(6):
+            self.compare_all_teams(ring_with_many_grants(seed))
+
+    def test_few_grants_on_a_ring(self):
+        for seed in range(6):
+            grants = ring_with_many_grants(seed).grants()
+            self.compare_all_teams(ring(grants[seed::4]))
+
+    def test_a_hundred_calls_are_answered_at_once(self):
+        for build in [ring_of_acts, lambda: ring_with_many_grants(1), full_system]:
+            system, times = build(), []
+            for _ in range(3):
+                start = time.perf_counter()
+                for _ in range(100):
+                    acting(system, ["a"])
+                    act_path(system, ["a"], "h")
+                times.append(time.perf_counter() - start)
+            self.assertLess(min(times), 0.05)
+
+    def test_the_first_calls_take_no_longer(self):
+        systems = [ring_with_many_grants(seed) for seed in range(50)]
+        start = time.perf_counter()
+        for system in systems:
+            acting(system, ["a"])
+        self.assertLess(time.perf_counter() - start, 0.05)
 
 
 class ArgumentsTest(unittest.TestCase):
