@@ -1,26 +1,18 @@
 """Who has which right and who can act as whom, with reasons and barriers that show it."""
 
 from rolereach.checks import check_flag, check_right
-from rolereach.errors import InvalidTeam, Mismatch, UnknownRole, UnknownThing
+from rolereach.errors import InvalidTeam
 from rolereach.names import is_list
 from rolereach.systems import check_system
 from rolereach.walks import way_to
 
 
-def check_role(system, role):
-    if not system.catalog.is_role(role):
-        raise UnknownRole(role)
-
-
 def check_question(system, role, right, thing):
     """The checks of a role, a right and a thing, which most functions of this file have in common."""
     check_system(system)
-    check_role(system, role)
+    system.catalog.check_role(role)
     check_right(right)
-    if not system.catalog.knows(thing):
-        raise UnknownThing(thing)
-    if not system.catalog.is_right_on(right, thing):
-        raise Mismatch(right)
+    system.catalog.check_spot(right, thing)
 
 
 def roles_in(system, mask):
@@ -29,7 +21,7 @@ def roles_in(system, mask):
 
 def inherited(system, role):
     check_system(system)
-    check_role(system, role)
+    system.catalog.check_role(role)
     return roles_in(system, system.holding.inherited(role))
 
 
@@ -135,7 +127,7 @@ class Access:
 def rows_of(system):
     roster = system.catalog.roster
     spots = [(right, thing, system.holding.having((right, thing))) for right, thing in roster.spots]
-    return [(role, right, thing) for role in roster.roles for right, thing, those in spots
+    return [(role, right, thing) for role in roster.role_names for right, thing, those in spots
             if those & roster.bits[role] != 0]
 
 
@@ -153,7 +145,7 @@ def acting(system, roles):
 def act_path(system, roles, role):
     check_system(system)
     check_team(system, roles)
-    check_role(system, role)
+    system.catalog.check_role(role)
     before = system.holding.ways_of_acting(roles)
     if role not in before:
         return None

@@ -1,6 +1,6 @@
 """The things of a system, in their order, and what follows from them alone."""
 
-from rolereach.errors import InvalidStep, TooLong, TooMany, UnknownRole, UnknownThing
+from rolereach.errors import InvalidStep, Mismatch, TooLong, TooMany, UnknownRole, UnknownThing
 from rolereach.names import is_list, is_right, kind_of
 from rolereach.rosters import Roster
 from rolereach.things import Call
@@ -25,8 +25,7 @@ class Catalog:
 
     def _check_roles_of(self, thing):
         for name in [thing.owner] + (thing.audience or []):
-            if not self.is_role(name):
-                raise UnknownRole(name)
+            self.check_role(name)
 
     def _add_steps_of(self, function):
         body = function.body()
@@ -57,6 +56,10 @@ class Catalog:
     def is_role(self, name):
         return self.knows(name) and self._by_name[name].kind == "role"
 
+    def is_function(self, name):
+        # Only functions have steps.
+        return isinstance(name, str) and name in self._steps
+
     def are_roles(self, value):
         """Whether the value, any value, is a list of distinct names of roles."""
         if not is_list(value) or not all([self.is_role(item) for item in value]):
@@ -69,6 +72,21 @@ class Catalog:
     def is_right_on(self, right, name):
         return is_right(right) and self.knows(name) and kind_of(right) == self._by_name[name].kind
 
+    def check_spot(self, right, name):
+        """The checks of a right and of a thing that it is to be a right on."""
+        if not self.knows(name):
+            raise UnknownThing(name)
+        if not self.is_right_on(right, name):
+            raise Mismatch(right)
+
+    def check_role(self, name):
+        if not self.is_role(name):
+            raise UnknownRole(name)
+
+    def check_taker(self, name):
+        if not self.is_taker(name):
+            raise UnknownRole(name)
+
     def thing_of(self, name):
         if not self.knows(name):
             raise UnknownThing(name)
@@ -78,7 +96,7 @@ class Catalog:
         return self.thing_of(name).owner
 
     def steps_of(self, name):
-        if not isinstance(name, str) or name not in self._steps:
+        if not self.is_function(name):
             raise UnknownThing(name)
         return self._steps[name]
 

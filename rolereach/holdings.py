@@ -64,7 +64,7 @@ class Holding:
     def heirs(self):
         """For each role, by its place, the roles on which it holds inherit."""
         if self._heirs is None:
-            self._heirs = turned([self.holders(("inherit", role)) for role in self.roster.roles])
+            self._heirs = turned([self.holders(("inherit", role)) for role in self.roster.role_names])
         return self._heirs
 
     def closures(self):
@@ -89,7 +89,7 @@ class Holding:
     def parts(self):
         """For each role, by its place, the roles on which it has act."""
         if self._parts is None:
-            self._parts = turned([self.having(("act", role)) for role in self.roster.roles])
+            self._parts = turned([self.having(("act", role)) for role in self.roster.role_names])
         return self._parts
 
     def acted_as(self, mask):

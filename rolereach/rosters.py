@@ -11,10 +11,10 @@ class Roster:
     """Bits for the takers; for each right on a thing, a spot (right, thing); owners and audiences as bits."""
 
     def __init__(self, things):
-        self.roles = [thing.name for thing in things if thing.kind == "role"]
-        self.places = {role: place for place, role in enumerate(self.roles)}
-        self.bits = {role: 1 << place for place, role in enumerate(self.roles)}
-        self.everyone = (1 << len(self.roles)) - 1
+        self.role_names = [thing.name for thing in things if thing.kind == "role"]
+        self.places = {role: place for place, role in enumerate(self.role_names)}
+        self.bits = {role: 1 << place for place, role in enumerate(self.role_names)}
+        self.everyone = (1 << len(self.role_names)) - 1
         self.spots = [(right, thing.name) for thing in things for right in thing.rights()]
         self.owners = {thing.name: self.bits[thing.owner] for thing in things}
         self.admitted = {thing.name: self._admitted_by(thing.audience) for thing in things}
@@ -31,7 +31,7 @@ class Roster:
         return sum([self.bits[role] for role in roles])
 
     def roles_in(self, mask):
-        return [role for role in self.roles if mask & self.bits[role] != 0]
+        return [role for role in self.role_names if mask & self.bits[role] != 0]
 
     def ways(self, starts, masks):
         """For each role that can be reached, the role before it on a shortest way, None for a start.

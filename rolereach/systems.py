@@ -103,23 +103,27 @@ class System:
         # The grants that are here stand, so what they give with the option can be given further.
         if not self.holding.holds_with_option(grant.giver, grant.right, grant.thing):
             raise Unrooted(grant)
-        grants = merged(self._grants, {grant.key(): grant})
-        holding = self.holding.copied()
-        holding.receive((grant.right, grant.thing), self.catalog.roster.bit_of(grant.taker), grant.option)
-        return assembled(self.catalog, grants, holding, self._defaults)
+        return self.with_gifts([grant])
 
     def with_default(self, default):
         check_default(self.catalog, default)
-        defaults = merged(self._defaults, {default.key(): default})
+        defaults = merged(self._defaults, [default])
         return assembled(self.catalog, self._grants, self.holding, defaults)
 
     def joined(self, other):
         check_system(other)
         if not self.same_things(other):
             raise Mismatch(other)
-        grants = merged(self._grants, other._grants)
-        defaults = merged(self._defaults, other._defaults)
+        grants = merged(self._grants, list(other._grants.values()))
+        defaults = merged(self._defaults, list(other._defaults.values()))
         return assembled(self.catalog, grants, self.holding.joined(other.holding), defaults)
+
+    def with_gifts(self, grants):
+        """The system with these grants besides, which fit its things and stand with its own ones."""
+        holding = self.holding.copied()
+        for grant in grants:
+            holding.receive((grant.right, grant.thing), self.catalog.roster.bit_of(grant.taker), grant.option)
+        return assembled(self.catalog, merged(self._grants, grants), holding, self._defaults)
 
     def with_only(self, grants):
         """The system with these grants in the place of its own ones; all of them stand."""
@@ -139,11 +143,11 @@ def assembled(catalog, grants, holding, defaults):
 
 
 def merged(entries, others):
-    """The grants, or defaults, of both dicts, each with the option if it has it in one of them."""
+    """The grants, or defaults, of the dict and of the list, each with the option if it has it in one of them."""
     both = {key: entries[key] for key in entries}
-    for key, entry in others.items():
-        if key not in both or entry.option:
-            both[key] = entry
+    for entry in others:
+        if entry.key() not in both or entry.option:
+            both[entry.key()] = entry
     return both
 
 

@@ -3,12 +3,15 @@
 import unittest
 
 from rolereach.access import acting, barrier, has, holds, inherited, reason
-from rolereach.errors import Unrooted
+from rolereach.errors import Denied, InvalidLine, Unrooted
 from rolereach.grants import Grant
 from rolereach.names import is_flag, is_name, is_names, is_taker, kind_of, rights_of, split_words
+from rolereach.running import do
+from rolereach.servers import Server
 from rolereach.standing import is_cut_off, support, without
 from rolereach.systems import System
-from rolereach.things import Call, Function, Give, Make, Role, Table
+from rolereach.texts import read_system, system_text
+from rolereach.things import Call, Function, Give, Make, Role, Table, Take
 
 
 class StageOneTest(unittest.TestCase):
@@ -105,6 +108,45 @@ class StageSixTest(unittest.TestCase):
             [[link[:3] for link in reason(system, "ann", "read", "pay")], barrier(system, "ops", "act", "ann"),
              acting(system, ["ann"])],
             [[('ann', 'inherit', 'ops'), ('ops', 'read', 'pay')], ['ops'], ['ann']])
+
+
+class StageSevenTest(unittest.TestCase):
+    def test_a_call_and_a_gift(self):
+        things = [Role("dba", "dba"), Role("ann", "dba"), Table("pay", "dba"),
+                  Function("open", "dba", body=[Give("read", "pay", "caller")])]
+        system = System(things, [Grant("dba", "public", "call", "open")])
+        self.assertEqual([grant.key() for grant in do(system, "ann", Call("open")).grants()],
+                         [('dba', 'public', 'call', 'open'), ('dba', 'ann', 'read', 'pay')])
+        with self.assertRaises(Denied):
+            do(system, "ann", Give("read", "pay", "ann"))
+
+
+class StageEightTest(unittest.TestCase):
+    def test_a_session(self):
+        server = Server(System([Role("dba", "dba"), Role("ann", "dba"), Table("pay", "dba")]))
+        session = server.session("dba")
+        self.assertEqual(
+            [session.act_as("ann"), session.path(), session.leave(), session.perform(Give("read", "pay", "ann")),
+             session.perform(Give("read", "pay", "ann"))],
+            [None, ['dba', 'ann'], None, True, False])
+        self.assertEqual([server.log()[0], server.undo(), len(server.system), server.changes()],
+                         [('dba', 'dba', 'give read pay ann', 'done'), None, 0, 0])
+
+
+class StageNineTest(unittest.TestCase):
+    def test_texts_of_deeds(self):
+        self.assertEqual(
+            [str(Take("read", "pay", "ann", cascade=True)),
+             str(Take("read", "pay", "ann", giver="dba", only_option=True))],
+            ['take read pay ann cascade', 'take read pay ann by dba option'])
+
+    def test_texts_of_systems(self):
+        with self.assertRaises(InvalidLine):
+            read_system("role dba dba\nfunction f dba owner audience dba : "
+                        "give act dba caller ; give inherit dba public option")
+        self.assertEqual(
+            system_text(read_system("role dba dba\nrole ann dba\ngrant dba public act ann\ngrant dba ann act dba")),
+            'role dba dba\nrole ann dba\ngrant dba public act ann\ngrant dba ann act dba')
 
 
 if __name__ == "__main__":

@@ -3,7 +3,7 @@
 import inspect
 import unittest
 
-from rolereach import access, grants, names, standing, systems, things
+from rolereach import access, grants, names, running, servers, standing, systems, texts, things
 
 FUNCTIONS = {names: {
     "is_name": "(value)", "is_taker": "(value)", "is_right": "(value)", "is_flag": "(value)",
@@ -19,6 +19,13 @@ FUNCTIONS = {names: {
     "is_reason": "(system, role, right, thing, value)", "barrier": "(system, role, right, thing)",
     "is_barrier": "(system, role, right, thing, roles)", "acting": "(system, roles)",
     "act_path": "(system, roles, role)",
+}, running: {
+    "do": "(system, role, deed)",
+}, servers: {
+    "within": "(manager, action)",
+}, texts: {
+    "read_deed": "(text)", "thing_text": "(thing)", "read_thing": "(text)", "system_text": "(system)",
+    "read_system": "(text)",
 }}
 
 ORDER = ["__eq__", "__lt__", "__le__", "__gt__", "__ge__"]
@@ -36,6 +43,12 @@ LATER = {
         "with_grant": "(self, grant)", "with_default": "(self, default)", "joined": "(self, other)"}),
     (access, "Access"): ("(system)", ["__len__", "__contains__"],
                          {"__call__": "(self, role, right, thing)", "rows": "(self)"}),
+    (servers, "Server"): ("(system)", [], {"session": "(self, login)", "log": "(self)", "undo": "(self)",
+                                           "redo": "(self)", "changes": "(self)"}),
+    (servers, "Session"): ("(server, login)", [], {"path": "(self)", "act_as": "(self, role)", "leave": "(self)",
+                                                   "perform": "(self, deed)"}),
+    (servers, "Acting"): ("(session, role)", ["__enter__", "__exit__"], {}),
+    (servers, "Block"): ("(server)", ["__enter__", "__exit__"], {}),
 }
 
 CLASSES = {

@@ -3,6 +3,7 @@
 from rolereach.access import Access
 from rolereach.errors import InvalidName
 from rolereach.grants import Default, Grant
+from rolereach.servers import Server
 from rolereach.systems import System
 from rolereach.things import Call, Function, Give, Make, Preset, Role, Table, Take, Use
 
@@ -32,7 +33,8 @@ def other_values():
         Call("f"), Preset("table", "read", "ann"), Use("read", "pay"), Make(Table("pay", "ann")),
         Grant("ann", "bob", "read", "pay"), Grant("ann", "bob", "act", "ann", option=True),
         Default("ann", "table", "read", "bob"), System([]), System([Role("ann", "ann")]),
-        Access(System([Role("ann", "ann")])), InvalidName("a"),
+        Access(System([Role("ann", "ann")])), InvalidName("a"), Server(System([Role("ann", "ann")])),
+        Server(System([Role("ann", "ann")])).session("ann"),
     ]
 
 
