@@ -20,7 +20,14 @@ class Holding:
         self._parts = None
 
     def copied(self):
-        return self.placed(self.roster)
+        held = {spot: self.held[spot] for spot in self.held}
+        optioned = {spot: self.optioned[spot] for spot in self.optioned}
+        copy = Holding(self.roster, held, optioned)
+        # Lists that are kept are never changed, so both may have them.
+        copy._heirs = self._heirs
+        copy._closures = self._closures
+        copy._parts = self._parts
+        return copy
 
     def placed(self, roster):
         """The same levels for a roster that has the same roles first, and the same things, perhaps more."""
@@ -108,6 +115,27 @@ class Holding:
 
     def ways_of_acting(self, roles):
         return self.roster.ways(roles, self.parts())
+
+    def same_levels(self, other):
+        return self.held == other.held and self.optioned == other.optioned
+
+    def reaches_over(self, other):
+        """Whether each level of the other one is at most that of this one, for the same things."""
+        return (all([other.held[spot] & ~self.held[spot] == 0 for spot in self.held])
+                and all([other.optioned[spot] & ~self.optioned[spot] == 0 for spot in self.held]))
+
+    def levels(self):
+        """A dict from tuples (taker, right, thing) to 1 or 2."""
+        found = {}
+        for right, thing in self.roster.spots:
+            held = self.held[(right, thing)]
+            optioned = self.optioned[(right, thing)]
+            for taker, bit in self.roster.bits.items():
+                if held & bit != 0:
+                    found[(taker, right, thing)] = 2 if optioned & bit != 0 else 1
+            if held & PUBLIC != 0:
+                found[("public", right, thing)] = 1
+        return found
 
 
 def holding_of(roster, grants):

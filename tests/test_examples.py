@@ -3,13 +3,17 @@
 import unittest
 
 from rolereach.access import acting, barrier, has, holds, inherited, reason
+from rolereach.consoles import Console
 from rolereach.errors import Denied, InvalidLine, Unrooted
+from rolereach.extents import meets, reach, rounds
 from rolereach.grants import Grant
 from rolereach.names import is_flag, is_name, is_names, is_taker, kind_of, rights_of, split_words
+from rolereach.plans import can_ever, first_round
 from rolereach.running import do
 from rolereach.servers import Server
 from rolereach.standing import is_cut_off, support, without
 from rolereach.systems import System
+from rolereach.teams import helpers, needed, team_papers
 from rolereach.texts import read_system, system_text
 from rolereach.things import Call, Function, Give, Make, Role, Table, Take
 
@@ -147,6 +151,62 @@ class StageNineTest(unittest.TestCase):
         self.assertEqual(
             system_text(read_system("role dba dba\nrole ann dba\ngrant dba public act ann\ngrant dba ann act dba")),
             'role dba dba\nrole ann dba\ngrant dba public act ann\ngrant dba ann act dba')
+
+
+class StageTenTest(unittest.TestCase):
+    def test_rounds_and_goals(self):
+        things = [Role("dba", "dba"), Role("ann", "dba"), Role("bob", "dba"), Table("pay", "dba", audience=["ann"])]
+        things = things + [Function("open", "dba", body=[Give("read", "pay", "caller")])]
+        system = System(things, [Grant("dba", "public", "call", "open"), Grant("dba", "bob", "inherit", "ann")])
+        self.assertEqual(
+            ([len(extent) for extent in rounds(system, ["bob"])], [len(extent) for extent in rounds(system, ["ann"])]),
+            ([2], [2, 3]))
+        self.assertEqual(
+            [meets(system, reach(system, ["ann"]), ("has", "bob", "read", "pay")),
+             meets(system, reach(system, ["bob"]), ("use", "read", "pay"))],
+            [True, False])
+
+
+class StageElevenTest(unittest.TestCase):
+    def test_plans(self):
+        things = [Role("dba", "dba"), Role("ops", "dba"), Role("ann", "dba"), Table("pay", "dba")]
+        things = things + [Function("lend", "dba", body=[Give("act", "ops", "caller")]),
+                           Function("open", "dba", body=[Give("read", "pay", "caller")])]
+        system = System(things, [Grant("dba", "ann", "call", "lend"), Grant("dba", "ops", "call", "open")])
+        word, plan = can_ever(system, ["ann"], ("use", "read", "pay"))
+        self.assertEqual(
+            [word, [[step.path(), str(step.deed)] for step in plan],
+             first_round(system, ["ann"], ("use", "read", "pay"))],
+            ['plan', [[['ann'], 'call lend'], [['ann', 'ops'], 'call open']], 2])
+        self.assertEqual(can_ever(system, ["ann"], ("has", "ann", "read", "pay"))[0], 'never')
+
+
+class StageTwelveTest(unittest.TestCase):
+    def test_teams_and_cuts(self):
+        things = [Role("dba", "dba"), Role("ann", "dba"), Role("bob", "dba"),
+                  Table("key", "dba", audience=["ann", "bob"])]
+        things = things + [Function("open", "dba", audience=["bob"], body=[Give("write", "key", "ann")])]
+        system = System(things, [Grant("dba", "bob", "call", "open"), Grant("dba", "ann", "read", "key")])
+        goal = ("use", "write", "key")
+        self.assertEqual(
+            [[team for team, plan in team_papers(system, ["ann", "bob"], goal)[0]], helpers(system, ["ann"], goal)],
+            [[['ann', 'bob']], ['dba', 'bob']])
+        self.assertEqual(
+            [[grant.key() for grant in needed(system, ["ann", "bob"], goal)], needed(system, ["ann"], goal)],
+            [[('dba', 'bob', 'call', 'open')], None])
+
+
+class StageThirteenTest(unittest.TestCase):
+    def test_a_console(self):
+        console = Console(Server(System([Role("dba", "dba"), Role("ann", "dba"), Table("pay", "dba")])))
+        self.assertEqual(
+            [console("as dba : give read pay ann option"), console("why ann read pay"),
+             console("ever ann : has ann act dba"), console("grants pay")],
+            ['done', 'ann has read on pay by dba', 'never', 'dba ann read option'])
+        self.assertEqual(
+            [console("ever - : has ann read pay"), console("undo"), console("round ann : use read pay"),
+             console.history()[2]],
+            ['now', 'done', 'never', 'ever ann : has ann act dba'])
 
 
 if __name__ == "__main__":

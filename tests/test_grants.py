@@ -245,14 +245,14 @@ class OtherOperandsTest(unittest.TestCase):
         grant = Grant("ann", "bob", "read", "pay")
         others = [value for value in any_values() if not isinstance(value, Grant)]
         self.refused(grant, InvalidGrant, others + [grant.key()])
-        plain = [value for value in others if type(value).__name__ not in ("Default", "System")]
+        plain = [value for value in others if type(value).__name__ not in ("Default", "System", "Extent")]
         self.on_the_left(grant, InvalidGrant, plain + [grant.key()])
 
     def test_defaults(self):
         default = Default("ann", "table", "read", "bob")
         others = [value for value in any_values() if not isinstance(value, Default)]
         self.refused(default, InvalidDefault, others)
-        plain = [value for value in others if type(value).__name__ not in ("Grant", "System")]
+        plain = [value for value in others if type(value).__name__ not in ("Grant", "System", "Extent")]
         self.on_the_left(default, InvalidDefault, plain)
 
     def test_each_class_answers_for_its_own_left_side(self):

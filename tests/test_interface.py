@@ -3,7 +3,8 @@
 import inspect
 import unittest
 
-from rolereach import access, grants, names, running, servers, standing, systems, texts, things
+from rolereach import access, consoles, extents, grants, names, plans, running, servers, standing, systems, teams
+from rolereach import texts, things
 
 FUNCTIONS = {names: {
     "is_name": "(value)", "is_taker": "(value)", "is_right": "(value)", "is_flag": "(value)",
@@ -26,6 +27,19 @@ FUNCTIONS = {names: {
 }, texts: {
     "read_deed": "(text)", "thing_text": "(thing)", "read_thing": "(text)", "system_text": "(system)",
     "read_system": "(text)",
+}, extents: {
+    "begin": "(system, team)", "advance": "(system, extent)", "reach": "(system, team)", "rounds": "(system, team)",
+    "is_closed": "(system, team, value)", "is_goal": "(system, value)", "meets": "(system, extent, goal)",
+}, plans: {
+    "run_plan": "(system, team, plan)", "is_plan": "(system, team, goal, value)",
+    "is_lean": "(system, team, goal, value)", "can_ever": "(system, team, goal)",
+    "is_never": "(system, team, goal, value)", "first_round": "(system, team, goal)",
+    "is_too_early": "(system, team, goal, extents)",
+}, teams: {
+    "team_papers": "(system, logins, goal)", "is_team_papers": "(system, logins, goal, value)",
+    "helpers": "(system, team, goal)", "cut_papers": "(system, team, goal, grants)",
+    "is_cut_papers": "(system, team, goal, grants, value)", "needed": "(system, team, goal)",
+    "parting_team": "(one, other, logins)",
 }}
 
 ORDER = ["__eq__", "__lt__", "__le__", "__gt__", "__ge__"]
@@ -49,6 +63,11 @@ LATER = {
                                                    "perform": "(self, deed)"}),
     (servers, "Acting"): ("(session, role)", ["__enter__", "__exit__"], {}),
     (servers, "Block"): ("(server)", ["__enter__", "__exit__"], {}),
+    (extents, "Extent"): ("(roles, levels)", ["__eq__", "__le__", "__ge__", "__or__", "__and__", "__len__"], {
+        "roles": "(self)", "levels": "(self)", "level": "(self, taker, right, thing)", "rows": "(self)"}),
+    (plans, "Step"): ("(path, deed)", ["__eq__"], {"path": "(self)"}),
+    (consoles, "Console"): ("(server)", [], {"__call__": "(self, line)", "run_all": "(self, lines)",
+                                             "commands": "(self)", "history": "(self)"}),
 }
 
 CLASSES = {

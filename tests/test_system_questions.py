@@ -4,6 +4,7 @@ import itertools
 import unittest
 
 from rolereach.errors import InvalidKind, InvalidSystem, UnknownThing
+from rolereach.extents import Extent
 from rolereach.grants import Default, Grant
 from rolereach.systems import System
 from rolereach.things import Call, Function, Role, Table
@@ -186,7 +187,7 @@ class OrderTest(unittest.TestCase):
             if not isinstance(value, System):
                 expect(self, InvalidSystem, "value", value, lambda: system <= value)
                 expect(self, InvalidSystem, "value", value, lambda: system >= value)
-                if not isinstance(value, (Grant, Default)):
+                if not isinstance(value, (Grant, Default, Extent)):
                     expect(self, InvalidSystem, "value", value, lambda: value <= system)
                     expect(self, InvalidSystem, "value", value, lambda: value >= system)
 

@@ -1,8 +1,11 @@
 """Values of every kind, for tests that pass any value, and a check of the error that is due."""
 
 from rolereach.access import Access
+from rolereach.consoles import Console
 from rolereach.errors import InvalidName
+from rolereach.extents import Extent
 from rolereach.grants import Default, Grant
+from rolereach.plans import Step
 from rolereach.servers import Server
 from rolereach.systems import System
 from rolereach.things import Call, Function, Give, Make, Preset, Role, Table, Take, Use
@@ -34,7 +37,9 @@ def other_values():
         Grant("ann", "bob", "read", "pay"), Grant("ann", "bob", "act", "ann", option=True),
         Default("ann", "table", "read", "bob"), System([]), System([Role("ann", "ann")]),
         Access(System([Role("ann", "ann")])), InvalidName("a"), Server(System([Role("ann", "ann")])),
-        Server(System([Role("ann", "ann")])).session("ann"),
+        Server(System([Role("ann", "ann")])).session("ann"), Console(Server(System([Role("ann", "ann")]))),
+        Step(["ann"], Call("f")), Extent(["zed"], {("zed", "read", "pay"): 2}),
+        Extent(["ann"], {("ann", "act", "run"): 1}),
     ]
 
 
