@@ -143,6 +143,9 @@ class Console:
         self._lines = []
 
     def __call__(self, line):
+        return self._run(line)
+
+    def _run(self, line):
         answer = execute(self._server, line)
         self._lines.append(line)
         return answer
@@ -151,7 +154,7 @@ class Console:
         if not is_list(lines) or len(lines) > MOST_LINES:
             raise InvalidLines(lines)
         with Block(self._server):
-            return [self(line) for line in lines]
+            return [self._run(line) for line in lines]
 
     def commands(self):
         return list(ACTIONS)

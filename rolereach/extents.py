@@ -36,7 +36,7 @@ class Extent:
     def rows(self):
         # A space comes before each letter, so the order of these texts is that of the tuples.
         texts = {" ".join(spot): spot for spot in self._levels}
-        spots = [texts[text] for text in sorted([str(text) for text in texts])]
+        spots = [texts[line] for line in sorted([str(text) for text in texts])]
         return [(taker, right, thing, self._levels[(taker, right, thing)]) for taker, right, thing in spots]
 
     def __len__(self):

@@ -22,12 +22,12 @@ class Holding:
     def copied(self):
         held = {spot: self.held[spot] for spot in self.held}
         optioned = {spot: self.optioned[spot] for spot in self.optioned}
-        copy = Holding(self.roster, held, optioned)
+        same = Holding(self.roster, held, optioned)
         # Lists that are kept are never changed, so both may have them.
-        copy._heirs = self._heirs
-        copy._closures = self._closures
-        copy._parts = self._parts
-        return copy
+        same._heirs = self._heirs
+        same._closures = self._closures
+        same._parts = self._parts
+        return same
 
     def placed(self, roster):
         """The same levels for a roster that has the same roles first, and the same things, perhaps more."""

@@ -47,20 +47,17 @@ class Tracer:
         return self._rounds.scopes[number].holding
 
     def _first_round(self, fact):
-        """The number of the first scope with a fact, or None."""
-        taker, right, thing, level = fact
-        for number, scope in enumerate(self._rounds.scopes):
-            masks = scope.holding.optioned if level == 2 else scope.holding.held
-            if masks[(right, thing)] & scope.holding.roster.bit_of(taker) != 0:
-                return number
-        return None
+        """The number of the first scope with a fact."""
+        number = 0
+        while not has_fact(self._holding(number), fact):
+            number += 1
+        return number
 
     def _want(self, number, fact):
-        """Wants a fact that is needed at the scope of this number, unless a body itself has given it there."""
-        first = self._first_round(fact)
-        if first is not None and first <= number and fact not in self._known:
+        """Wants a fact that is needed at the scope of this number, unless it is the body of a call that gives it."""
+        if has_fact(self._holding(number), fact) and fact not in self._known:
             self._known[fact] = True
-            self._wanted.append((first, fact))
+            self._wanted.append((self._first_round(fact), fact))
 
     def _want_hold(self, number, holding, role, right, thing):
         spot = (right, thing)
@@ -107,16 +104,12 @@ class Tracer:
         taker, right, thing, _ = fact
         scope = self._rounds.scopes[number]
         roster = scope.holding.roster
-        bit = roster.bit_of(taker)
-        givers = roster.roles_in(scope.mask & scope.holding.keepers((right, thing)) & ~bit)
-        if len(givers) == 0 or roster.admitted[thing] & bit == 0:
-            return None
-        return givers[0]
+        # The audience admits the taker, since somehow he came to have it.
+        givers = roster.roles_in(scope.mask & scope.holding.keepers((right, thing)) & ~roster.bit_of(taker))
+        return givers[0] if len(givers) > 0 else None
 
     def _serve_by_call(self, number, fact):
         name, role = [(name, role) for name, role, gifts in self._rounds.calls[number] if gives(gifts, fact)][0]
-        if (name, role) in self._moves:
-            return
         path = self._want_path(number - 1, role)
         self._moves[(name, role)] = (path, Call(name), number)
         self._want_call(number - 1, Course(self._rounds.catalog, self._holding(number - 1)), role, name)
@@ -132,6 +125,12 @@ class Tracer:
             else:
                 self._want_option(number, actor, deed.right, deed.thing)
                 course.give(actor, role, deed)
+
+
+def has_fact(holding, fact):
+    taker, right, thing, level = fact
+    masks = holding.optioned if level == 2 else holding.held
+    return masks[(right, thing)] & holding.roster.bit_of(taker) != 0
 
 
 def gives(gifts, fact):

@@ -26,9 +26,9 @@ class Server:
         return Session(self, login)
 
     def settle(self):
-        """Takes note of what changed since the last change, once no block is open.
+        """Takes note of the last change, if no block is open.
 
-        The end of a block cannot do so itself, since it must not compare systems.
+        The end of a block must not compare systems, so whoever asks or changes next does it.
         """
         if self.depth == 0 and self.system != self._settled:
             self._before.append(self._settled)
@@ -44,9 +44,7 @@ class Server:
             self._entries.append((login, role, str(deed), class_name(error)))
             raise
         changed = after != self.system
-        if changed:
-            self.system = after
-            self.settle()
+        self.system = after
         self._entries.append((login, role, str(deed), "done" if changed else "same"))
         return changed
 

@@ -1,7 +1,7 @@
 """Texts of deeds, things and systems, written and read back.
 
 Words are read generously, and what they give counts only if its own text is the one that was read.
-A word that is missing is read as the empty one, which no constructor takes.
+Missing words are read as empty ones.
 """
 
 from rolereach.errors import InvalidLine, InvalidText, RoleError

@@ -207,6 +207,33 @@ class BlockTest(unittest.TestCase):
             self.server.undo()
             self.assertEqual([len(self.server.system), self.server.changes()], [count, count])
 
+    def test_a_deed_behind_a_block_is_a_change_of_its_own(self):
+        within(Block(self.server), self.perform_both)
+        self.session.perform(Give("act", "bob", "ann"))
+        self.server.undo()
+        self.assertEqual([len(self.server.system), self.server.changes()], [2, 1])
+
+    def test_undo_right_behind_a_block(self):
+        within(Block(self.server), self.perform_both)
+        self.server.undo()
+        self.assertEqual(self.server.system, office())
+        self.server.redo()
+        self.assertEqual(len(self.server.system), 2)
+
+    def test_redo_right_behind_a_block(self):
+        self.session.perform(Give("act", "bob", "ann"))
+        self.server.undo()
+        within(Block(self.server), self.perform_both)
+        with self.assertRaises(NothingToRedo):
+            self.server.redo()
+        self.assertEqual(len(self.server.system), 2)
+
+    def test_a_block_behind_a_deed_and_a_deed_in_another_block(self):
+        self.session.perform(READ)
+        within(Block(self.server), lambda _: self.session.perform(WRITE))
+        within(Block(self.server), lambda _: self.session.perform(Give("act", "bob", "ann")))
+        self.assertEqual(self.server.changes(), 3)
+
     def test_a_block_of_another_server(self):
         other = Server(office())
         with Block(other):

@@ -238,6 +238,7 @@ NO_GOALS = [
     ("has", "ann", "read", "zed"), ("has", "public", "read", "pay"), ("option", "pay", "read", "pay"),
     ("has", "pay", "read", "ann"), ("option", "ann", "read", "run"), ("use", "read"), ("use", "read", "pay", "pay"),
     ("use", "call", "pay"), ("use", "pay", "read"), ("use", "ann", "read", "pay"), ["use", "read", "pay"],
+    ("see", "read", "pay"), (None, "read", "pay"), (1, "ann", "read", "pay"), ("can", "ann", "read", "pay"),
     ("Act", "ann"), ("can", "ann"), (None, "ann"), (True, "ann"), ("has", None, "read", "pay"), ("use", [], "pay"),
     ("use", "read", {}), ("has", "ann", "read", ["pay"]), (("act", "ann"),), "act ann", {"act": "ann"},
 ]

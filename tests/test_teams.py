@@ -214,6 +214,18 @@ class PartingTeamTest(unittest.TestCase):
         self.assertIsNone(parting_team(logins=["ann", "bob"], other=other, one=one))
         self.assertEqual(parting_team(one, office(), ["eve", "dba", "bob"]), ["eve", "dba", "bob"][::2])
 
+    def test_a_longer_list_comes_first(self):
+        # x comes to read pay if a calls f, and if b or c has given keeper what the body of f needs.
+        names = ["keeper", "a", "b", "c", "x", "z"]
+        things = [Role(name, "keeper") for name in names[:5]] + [Role("z", "b"), Table("pay", "keeper", audience=["x"])]
+        things.append(Function("f", "keeper", body=[Give("inherit", "z", "a"), Give("read", "pay", "x")]))
+        grants = given("keeper a call f, b c inherit z option")
+        one, other = System(things, grants), System(things, grants + given("keeper x read pay"))
+        self.assertEqual([parting_team(one, other, logins) for logins in [["a", "b", "c"], ["b", "a", "c"],
+                                                                          ["a", "b"]]],
+                         [["b", "c"], ["b", "c"], ["a"]])
+        self.assertEqual(parting_team(one, other, ["keeper"]), [])
+
     def test_unlike_things(self):
         one = office()
         for other in [System([]), System(one.things()[:-1]), System(one.things()[::-1]), key_world()]:
