@@ -60,9 +60,8 @@ class Rounds:
         found = scope.holding.copied()
         spread_gifts(scope, found)
         calls = self._new_calls(scope)
-        for _, _, gifts in calls:
-            for _, taker, right, thing, option in gifts:
-                found.receive((right, thing), found.roster.bit_of(taker), option)
+        for _, taker, right, thing, option in [gift for call in calls for gift in call[2]]:
+            found.receive((right, thing), found.roster.bit_of(taker), option)
         further = full_scope(found, scope.mask)
         if further.is_same(scope):
             return False

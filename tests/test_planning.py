@@ -2,6 +2,7 @@
 
 import unittest
 
+from rolereach.extents import rounds
 from rolereach.plans import can_ever, is_lean
 from rolereach.systems import System
 from rolereach.things import Call, Function, Give, Role, Table
@@ -30,6 +31,12 @@ class PlanningTest(unittest.TestCase):
         self.assertEqual(self.steps(system, ["b"], ("has", "c", "act", "d")), ["b : call f", "b c : call g"])
         self.assertEqual(self.steps(system, ["b", "c"], ("act", "d")), ["c : call g"])
         self.assertEqual(self.steps(system, ["b", "d"], ("act", "d")), [])
+
+    def test_a_role_to_act_as_by_what_is_inherited(self):
+        system = world(("f", [Give("inherit", "c", "b")]), grants="a b call f, a c act d, a d act e, a e read t option")
+        self.assertEqual(self.steps(system, ["b"], ("act", "e")), ["b : call f"])
+        self.assertEqual(self.steps(system, ["b"], ("has", "c", "read", "t")), ["b : call f", "b d e : give read t c"])
+        self.assertEqual([extent.roles() for extent in rounds(system, ["b"])][:2], [["b"], ["b", "d", "e"]])
 
     def test_what_public_gets(self):
         body = [Give("call", "g", "public"), Give("inherit", "c", "public")]

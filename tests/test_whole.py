@@ -10,7 +10,7 @@ from rolereach.grants import Default, Grant
 from rolereach.plans import can_ever, first_round, is_lean, run_plan
 from rolereach.running import do
 from rolereach.servers import Block, Server
-from rolereach.standing import ranks, standing
+from rolereach.standing import ranks, standing, without
 from rolereach.systems import System
 from rolereach.teams import cut_papers, helpers, is_cut_papers, is_team_papers, needed, team_papers
 from rolereach.texts import read_deed, read_system, read_thing, system_text, thing_text
@@ -198,6 +198,51 @@ class OrderTest(unittest.TestCase):
             self.assertEqual(System(system.things(), grants[::-1], system.defaults()[::-1]), system)
             self.assertEqual([standing(system, grants), ranks(system, grants)],
                              [standing(system, grants[::-1]), ranks(system, grants[::-1])])
+
+
+class HistoryTest(unittest.TestCase):
+    """A system answers alike however it came about."""
+
+    def same_answers(self, system):
+        fresh = System(system.things(), system.grants(), system.defaults())
+        self.assertEqual(system, fresh)
+        self.assertEqual(Access(system).rows(), Access(fresh).rows())
+        for team in [[], ROLES[1:2], ROLES[2:], ROLES]:
+            self.assertEqual([rounds(system, team), acting(system, team)], [rounds(fresh, team), acting(fresh, team)])
+
+    def test_changed_systems(self):
+        for seed in range(60):
+            dice = Dice(seed)
+            system = shop(dice)
+            # The questions are asked before each change, too, so that what is kept for them would show.
+            self.same_answers(system)
+            other = System(system.things(), standing(system, system.grants()[::2]))
+            for thing in system.things():
+                if dice.below(3) == 0 and thing.admits("ann") and thing.owner != "ann":
+                    right = dice.pick(thing.rights())
+                    other = other.with_grant(Grant(thing.owner, "ann", right, thing.name, option=dice.below(2) == 0))
+            self.same_answers(other)
+            self.same_answers(system.joined(other))
+            self.same_answers(other.joined(system))
+            if system.grants():
+                self.same_answers(without(system, [dice.pick(system.grants())])[0])
+                self.same_answers(without(system, system.grants()[:1], only_option=True)[0])
+            self.same_answers(system.with_default(Default("eve", "table", "read", "public")))
+
+    def test_things_that_are_added(self):
+        for seed in range(40):
+            dice = Dice(seed)
+            system = shop(dice)
+            if seed % 2 == 0:
+                system = system.with_grant(Grant(system.owner_of("pay"), "public", "read", "pay")
+                                           if system.thing_of("pay").admits("public") else system.grants()[0])
+            self.same_answers(system)
+            for thing in [Role("new", "new"), Table("x", "new"),
+                          Function("y", "ann", body=[Give("read", "x", "caller")])]:
+                system = system.with_thing(thing)
+                self.same_answers(system)
+            system = system.with_grant(Grant("new", "ann", "act", "new"))
+            self.same_answers(system.with_grant(Grant("new", "dba", "read", "x", option=True)))
 
 
 class NewListsTest(unittest.TestCase):
