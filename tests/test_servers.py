@@ -5,7 +5,7 @@ import unittest
 from rolereach.errors import AtLogin, Denied, InvalidDeed, InvalidSystem, MissingError, NothingToRedo, NothingToUndo
 from rolereach.errors import RoleError, StateError, UnknownRole
 from rolereach.running import do
-from rolereach.servers import Block, Server, within
+from rolereach.servers import Block, Server
 from rolereach.systems import System
 from rolereach.texts import system_text
 from rolereach.things import Call, Deed, Give, Make, Preset, Role, Table, Take, Use

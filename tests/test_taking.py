@@ -8,7 +8,7 @@ from rolereach.grants import Default, Grant
 from rolereach.running import do
 from rolereach.standing import without
 from rolereach.systems import System
-from rolereach.things import Call, Function, Give, Make, Preset, Role, Table, Take, Use
+from rolereach.things import Call, Function, Give, Make, Preset, Table, Take, Use
 from tests.test_running import denied, keys
 from tests.values import expect
 from tests.worlds import full_things, given, office
