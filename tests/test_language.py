@@ -89,6 +89,44 @@ class CodeTest(unittest.TestCase):
                     self.assertTrue(node.module.startswith("rolereach."), name)
                     self.assertNotIn("*", [alias.name for alias in node.names], name)
 
+    def test_no_two_files_import_from_each_other(self):
+        imports = {name: {node.module.split(".")[1] + ".py" for node in tree.body if isinstance(node, ast.ImportFrom)}
+                   for name, tree in trees()}
+        while imports:
+            free = [name for name, others in imports.items() if not others & set(imports)]
+            self.assertNotEqual(free, [], imports)
+            for name in free:
+                del imports[name]
+
+    def test_no_local_name_is_that_of_a_class_or_an_import(self):
+        for name, tree in trees():
+            taken = {alias.asname or alias.name for node in tree.body if isinstance(node, ast.ImportFrom)
+                     for alias in node.names} | {node.name for node in tree.body if isinstance(node, ast.ClassDef)}
+            local = {node.arg for node in ast.walk(tree) if isinstance(node, ast.arg)}
+            local |= {node.id for node in ast.walk(tree) if isinstance(node, ast.Name) and isinstance(node.ctx,
+                                                                                                      ast.Store)}
+            self.assertEqual(local & taken, set(), name)
+
+    def test_no_name_is_a_method_and_an_attribute(self):
+        methods, attributes = set(), set()
+        for _, tree in trees():
+            for node in ast.walk(tree):
+                if isinstance(node, ast.ClassDef):
+                    methods |= {part.name for part in node.body if isinstance(part, ast.FunctionDef)}
+                if isinstance(node, ast.Attribute) and isinstance(node.ctx, ast.Store):
+                    attributes.add(node.attr)
+        self.assertEqual(methods & attributes, set())
+
+    def test_the_end_of_a_block_only_puts_back(self):
+        for name, tree in trees():
+            for node in ast.walk(tree):
+                if isinstance(node, ast.FunctionDef) and node.name == "__exit__":
+                    self.assertEqual([arg.arg for arg in node.args.args], ["self", "kind", "value", "trace"], name)
+                    for part in ast.walk(node):
+                        self.assertNotIsInstance(part, (ast.Call, ast.BinOp, ast.Subscript, ast.For, ast.While), name)
+                        if isinstance(part, ast.Compare):
+                            self.assertEqual(ast.unparse(part), "kind is not None", name)
+
     def test_module_level(self):
         allowed = (ast.ImportFrom, ast.FunctionDef, ast.ClassDef, ast.Assign)
         for name, tree in trees():
